@@ -1,0 +1,1 @@
+"""Macrohouse: names mean what they meant where they were written."""
