@@ -39,7 +39,8 @@ class PutTest(unittest.TestCase):
 
     def test_numbers_rise_from_nought(self):
         claims = Claims()
-        self.assertEqual([claims.put("a", 5, 1, "m"), claims.put("a", 5, 1, "m"), claims.put("b", 0, 0, "n")], [0, 1, 2])
+        numbers = [claims.put("a", 5, 1, "m"), claims.put("a", 5, 1, "m"), claims.put("b", 0, 0, "n")]
+        self.assertEqual(numbers, [0, 1, 2])
         for number in (claims.put("c", 1, 2, "m"), claims.claim_of("c", 2)):
             self.assertIs(type(number), int)
 
@@ -138,7 +139,8 @@ class ClaimOfTest(Asked):
         self.assert_two(claims, "a", 3, 2, 3)
 
     def test_great_numbers(self):
-        claims = claims_of(("a", 1, GREAT, "m"), ("a", 2, GREAT + 1, "m"), ("a", 3, 2 ** 64, "m"), ("a", 4, 2 ** 63, "m"))
+        claims = claims_of(("a", 1, GREAT, "m"), ("a", 2, GREAT + 1, "m"), ("a", 3, 2 ** 64, "m"),
+                           ("a", 4, 2 ** 63, "m"))
         self.assertEqual(claims.claim_of("a", GREAT + 2), 0)
         self.assertEqual(claims.claim_of("a", GREAT + 3), 1)
         self.assertEqual(claims.claim_of("a", 2 ** 64 + 1), 2)

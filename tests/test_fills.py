@@ -5,8 +5,9 @@ from macrohouse.errors import NoFill
 from macrohouse.fills import filled
 from macrohouse.fits import fitted
 from macrohouse.rules import check_rule
-from macrohouse.trees import Figure, Row, Word, key_of
+from macrohouse.trees import Figure, Row, Word
 from tests.plain import plain, refusal, seen, things, tree_of, trees_of
+from tests.second import slow_filled
 
 MUCH = 1000000
 
@@ -226,37 +227,6 @@ class OwnTest(Fills):
     def test_sixty_rows_within_one_another(self):
         text = "(" * 60 + "a *" + ")" * 60
         self.assert_filled("(a *)", "1 2", text, "(" * 60 + "1 2" + ")" * 60)
-
-
-def slow_filled(tree, depths, found, number):
-    """A second telling of [20] by the variables' depths; None where lists are of unlike length."""
-    if isinstance(tree, Word):
-        key = key_of(tree)
-        return found[key] if key in depths else Word(tree.name, tree.at, tree.bits | 1 << number)
-    if isinstance(tree, Figure):
-        return tree
-    parts = []
-    left = list(tree.parts)
-    while left:
-        part = left.pop(0)
-        keys = [key for key in depths if depths[key] > 0 and key in slow_keys(part)]
-        if not (left and seen(left[0]) == "*" and keys):
-            parts.append(slow_filled(part, depths, found, number))
-            continue
-        left.pop(0)
-        inner = {key: max(0, depth - 1) for key, depth in depths.items()}
-        if len({len(found[key]) for key in keys}) != 1:
-            return None
-        for place in range(len(found[keys[0]])):
-            narrowed = {key: found[key][place] if key in keys else found[key] for key in found}
-            parts.append(slow_filled(part, inner, narrowed, number))
-    return None if None in parts else Row(parts, tree.at)
-
-
-def slow_keys(tree):
-    if isinstance(tree, Row):
-        return [key for part in tree.parts for key in slow_keys(part)]
-    return [key_of(tree)] if isinstance(tree, Word) else []
 
 
 def drawn_template(source, deep):

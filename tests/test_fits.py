@@ -3,8 +3,9 @@ import unittest
 
 from macrohouse.fits import fitted
 from macrohouse.rules import check_rule, variables
-from macrohouse.trees import Figure, Row, Word, is_name, key_of
+from macrohouse.trees import Figure, Row, is_name
 from tests.plain import plain, refusal, seen, things, tree_of, trees_of
+from tests.second import slow_fitted
 
 
 def by_spelling(fixed, word):
@@ -236,47 +237,6 @@ class OwnTest(Fits):
         found = fitted(tree_of("(a *)"), trees, by_spelling)
         trees.clear()
         self.assertEqual(things(found), {("a", 0): ["1", "2", "3"]})
-
-
-def slow_fitted(pattern, trees, same):
-    """A second telling of [18] and [19]: first the pairs of pieces and trees, then what is found."""
-    parts = pattern.parts
-    stars = [k for k, part in enumerate(parts) if isinstance(part, Word) and part.name == "*"]
-    if not stars:
-        pairs = list(zip(parts, trees))
-        if len(parts) != len(trees):
-            return None
-    else:
-        ahead, piece, behind = parts[:stars[0] - 1], parts[stars[0] - 1], parts[stars[0] + 1:]
-        middle = len(trees) - len(ahead) - len(behind)
-        if middle < 0:
-            return None
-        pairs = list(zip(ahead + [piece] * middle + behind, trees))
-    found = {}
-    if stars:
-        keys = variables(Row([piece], 0))
-        found = {key: [] for key in keys}
-    for number, (one, tree) in enumerate(pairs):
-        inner = slow_one(one, tree, same)
-        if inner is None:
-            return None
-        for key, thing in inner.items():
-            if stars and stars[0] - 1 <= number < stars[0] - 1 + middle:
-                found[key].append(thing)
-            else:
-                found[key] = thing
-    return found
-
-
-def slow_one(piece, tree, same):
-    text = seen(piece)
-    if is_name(piece):
-        return {key_of(piece): tree}
-    if isinstance(piece, Figure):
-        return {} if text == seen(tree) else None
-    if text.startswith("(= "):
-        return {} if is_name(tree) and same(piece.parts[1], tree) else None
-    return slow_fitted(piece, tree.parts, same) if isinstance(tree, Row) else None
 
 
 def drawn_pattern(source, deep, names):

@@ -161,14 +161,16 @@ class CheckerTest(unittest.TestCase):
     def test_what_is_outside_is_found(self):
         for source in (
             "from macrohouse.a import b\ndef f(b):\n    pass", "class A:\n    pass\ndef f():\n    A = 1",
-            "def f():\n    'words'", "def f(e):\n    raise e", "def f(x):\n    y = zip(x, x)", "def f(x):\n    return x.items()",
+            "def f():\n    'words'", "def f(e):\n    raise e", "def f(x):\n    y = zip(x, x)",
+            "def f(x):\n    return x.items()",
             "def f(xs):\n    for x in xs:\n        xs.append(x)", "def f(x):\n    y = set(x)",
             "def f(x):\n    for k in set(x):\n        f(k)", "def f(x):\n    return int(x, base=2)",
         ):
             self.assertNotEqual(faults_in('"""Words."""\n' + source), [], source)
 
     def test_what_is_inside_is_let_be(self):
-        source = '"""Words."""\n\n\ndef f(xs, ys):\n    zs = []\n    for x, y in zip(xs, ys):\n        zs.append(max([x, y], default=0))\n'
+        source = '"""Words."""\n\n\ndef f(xs, ys):\n    zs = []\n    for x, y in zip(xs, ys):\n'
+        source += "        zs.append(max([x, y], default=0))\n"
         source += "    if len(set(zs)) == len(zs):\n        raise ValueError('words')\n    return list(enumerate(zs))\n"
         self.assertEqual(faults_in(source), [])
 
