@@ -70,6 +70,10 @@ def come_to_mac(maker, spot):
 
 
 def is_mac(row):
-    if len(row.parts) != 4 or not is_name(row.parts[1]) or not isinstance(row.parts[2], Row):
+    return len(row.parts) == 4 and has_name_and_rules(row)
+
+
+def has_name_and_rules(row):
+    if not is_name(row.parts[1]) or not isinstance(row.parts[2], Row):
         return False
     return all([is_rule(rule) for rule in row.parts[2].parts])

@@ -1,5 +1,6 @@
 """The outcome: the cores of what is done, or the refusal of what is wrong."""
 
+from macrohouse.cores import inner_cores, with_inner
 from macrohouse.errors import BadForm, BadRule, NoFill, NoRule, TwoClaims
 
 
@@ -64,10 +65,7 @@ def words_of_spots(spots):
 
 
 def bare(core):
+    inner = [bare(part) for part in inner_cores(core)]
     if core[0] == "fn":
-        return ("fn", tuple([(place, "") for place, name in core[1]]), bare(core[2]))
-    if core[0] == "call":
-        return ("call", bare(core[1]), tuple([bare(part) for part in core[2]]))
-    if core[0] in ("pick", "now"):
-        return (core[0],) + tuple([bare(part) for part in core[1:]])
-    return core
+        return ("fn", tuple([(param[0], "") for param in core[1]]), inner[0])
+    return with_inner(core, inner)

@@ -1,6 +1,5 @@
 """Drawn texts: the maker against a second telling, in whatever order it goes on."""
 
-import random
 import unittest
 
 from macrohouse.errors import BadForm, BadRule, GoesOn, HouseError, NoFill, NoRule
@@ -9,112 +8,10 @@ from macrohouse.outcome import outcome, outcome_words
 from macrohouse.reader import read
 from macrohouse.trees import Word
 from macrohouse.turns import make
+from tests.drawing import drawn_texts
 from tests.making import made, put_in, told
 from tests.plain import plain, tree_of
 from tests.second import Second, way_of
-
-NAMES = ("x", "y", "z", "e")
-MACROS = ("m", "k", "m", "k", "m", "k", "x")
-ODD = ("()", "*", "fn", "(fn (x x) 1)", "(now)", "(pick 1 2)", "(mac m (((a a) 1)) 1)", "(mac x)", "(fn x)", "=", "now")
-
-
-class Drawer:
-    """Draws texts in which few names are told, used and handed in again and again."""
-
-    def __init__(self, seed, odd):
-        self.source = random.Random(seed)
-        self.odd = odd
-
-    def name(self):
-        return self.source.choice(NAMES)
-
-    def names(self, count):
-        return self.source.sample(NAMES, count)
-
-    def leaf(self):
-        if self.source.random() < self.odd:
-            return self.source.choice(ODD)
-        return self.source.choice([self.name(), self.name(), self.name(), str(self.source.randrange(4))])
-
-    def tree(self, deep, macros):
-        if deep == 0:
-            return self.leaf()
-        choice = self.source.randrange(20)
-        inner = deep - 1
-        if choice < 9 and macros:
-            return self.use(inner, macros)
-        if choice < 12:
-            params = " ".join(self.names(self.source.randrange(3)))
-            return f"(fn ({params}) {self.tree(inner, macros)})"
-        if choice < 14:
-            return self.told(inner, macros)
-        if choice == 14:
-            return f"(pick {self.tree(inner, macros)} {self.leaf()} {self.tree(inner, macros)})"
-        if choice == 15:
-            return f"(now {self.tree(inner, macros)})"
-        if choice == 16:
-            return self.leaf()
-        return "(" + " ".join(self.tree(inner, macros) for _ in range(self.source.randrange(1, 4))) + ")"
-
-    def use(self, deep, macros):
-        name, parts = self.source.choice(macros)
-        drawn = [self.handed(part, deep, macros) for part in parts]
-        if self.source.random() < self.odd:
-            drawn.append(self.leaf())
-        return "(" + " ".join([name] + drawn) + ")"
-
-    def handed(self, part, deep, macros):
-        if part == "name":
-            return self.name()
-        if part == "pairs":
-            return " ".join(f"({name} {self.leaf()})" for name in self.names(self.source.randrange(3)))
-        if part == "many":
-            return " ".join(self.tree(min(deep, 1), macros) for _ in range(self.source.randrange(4)))
-        if part == "tree":
-            return self.tree(deep, macros)
-        return part
-
-    def told(self, deep, macros):
-        name = self.source.choice(MACROS)
-        rules = []
-        uses = list(macros)
-        for _ in range(self.source.randrange(1, 3)):
-            text, parts = self.rule(min(deep, 2), uses)
-            rules.append(text)
-            uses.append((name, parts))
-        return f"(mac {name} ({' '.join(rules)}) {self.tree(deep, uses)})"
-
-    def rule(self, deep, macros):
-        one, two, three = self.names(3)
-        body = self.tree(deep, macros)
-        return self.source.choice([
-            (f"(({one}) {body})", ["tree"]),
-            (f"(({one} {two}) {body})", ["tree", "tree"]),
-            (f"(({one} {two}) {body})", ["name", "tree"]),
-            (f"(({one}) (fn ({two}) ({one} {two} {body})))", ["tree"]),
-            (f"(({one} {two}) (fn ({one}) ({two} {one} {body})))", ["name", "tree"]),
-            (f"(({one} {two} {three}) ((fn ({one}) {three}) {two}))", ["name", "tree", "tree"]),
-            (f"(({one} *) (q {one} * {two}))", ["many"]),
-            (f"((({one} {two}) * {three}) ((fn ({one} *) {three}) {two} *))", ["pairs", "tree"]),
-            (f"(((= {one}) {two}) {body})", [one, "tree"]),
-            (f"(((= {one}) {two}) ({two} {one}))", ["name", "tree"]),
-            (f"(({one} {two}) (mac {one} ((({three}) ({three} {one} {two}))) {two}))", ["name", "tree"]),
-            (f"(({one} {two}) (mac {three} ((({one}) (fn ({two}) {one}))) ({three} {two})))", ["name", "tree"]),
-            (f"((({one} *) ({two} *)) (q ({one} {two}) *))", ["(x y)", self.source.choice(["(1 2)", "(1)"])]),
-        ])
-
-    def text(self):
-        return " ".join(self.told(self.source.randrange(2, 5), []) for _ in range(self.source.randrange(1, 3)))
-
-    def delays(self):
-        bound = self.source.choice([2, 3, 8, 1000000007])
-        return [self.source.randrange(bound) for _ in range(self.source.randrange(1, 60))]
-
-
-def drawn_texts(seed, count):
-    for number in range(count):
-        drawer = Drawer(seed * 100003 + number, 0.0 if number % 2 else 0.06)
-        yield drawer, drawer.text()
 
 
 class OrderTest(unittest.TestCase):
