@@ -36,17 +36,22 @@ def is_pattern(tree):
 
 
 def variables(pattern):
-    return dict(variable_pairs(pattern, 0))
+    return depths_of(variable_words(pattern, 0))
 
 
-def variable_pairs(pattern, depth):
+def depths_of(pairs):
+    return dict([(key_of(word), depth) for word, depth in pairs])
+
+
+# The variables in order, each with its depth, which counts the pieces with a star around the pattern too.
+def variable_words(pattern, depth):
     pairs = []
     for tree, starred in pieces(pattern):
         inner = depth + 1 if starred else depth
         if is_name(tree):
-            pairs.append((key_of(tree), inner))
+            pairs.append((tree, inner))
         elif is_pattern(tree):
-            pairs.extend(variable_pairs(tree, inner))
+            pairs.extend(variable_words(tree, inner))
     return pairs
 
 
@@ -56,8 +61,8 @@ def check_rule(pattern, template):
     except BadRule as error:
         # Told by the row that is bad, but refused at the whole pattern.
         raise BadRule("a bad pattern", pattern.at) from error
-    pairs = variable_pairs(pattern, 0)
-    depths = dict(pairs)
+    pairs = variable_words(pattern, 0)
+    depths = depths_of(pairs)
     if len(depths) != len(pairs):
         raise BadRule("two variables with the same key", pattern.at)
     if has_bare(template, depths, 0):

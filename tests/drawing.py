@@ -115,7 +115,7 @@ ODD_ITEMS = (
     "(tell (x))", "(tell x)", "(def x)", "(def 1 1)", "(show)", "(show 1 2)", "(use)", "(use a x)", "(use c (x x))",
     "(mac x)", "(mac x (1))", "(mac x (((a a) 1)))", "(mac x (((a *) a)))", "7", "x", "tell", "(part b)", "()",
     "(use a (x nowhere))", "((tell) 1)", "(def * 1)", "(tell (* x))", "(mac y ((x)))", "(def x 1)", "(def x ())",
-    "(tell (q q))",
+    "(tell (q q))", "(use nowhere)", "(tell (w w))", "(use a (w w))", "(use b)", "(tell (x w) (w x))",
 )
 
 
@@ -139,6 +139,15 @@ class HouseDrawer(Drawer):
         if drawn in ("fn", "pick", "mac", "now") and self.source.randrange(6):
             return "1"
         return drawn
+
+    def rule(self, deep, macros):
+        if self.source.randrange(6):
+            return Drawer.rule(self, deep, macros)
+        # What is handed in is told in one place, and has no claim in another.
+        one, two, three = self.names(3)
+        fn = f"(fn ({one}) {two})"
+        text = self.source.choice([f"({fn} {two})", f"(fn ({one} {three}) {two})", f"({two} {fn})"])
+        return f"(({one} {two}) {text})", ["name", self.source.choice(["name", "tree"])]
 
     def part(self, name):
         claimed = {}
