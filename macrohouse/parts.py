@@ -22,13 +22,13 @@ def enter(maker, trees):
     for tree in trees:
         if not is_part(tree):
             raise BadForm("no part", tree.at)
-        word = tree.parts[1]
-        if word.name in earlier:
-            raise TwoClaims(f"two parts called {word.name!r}", earlier[word.name].at, word.at)
-        part = Part(word.at)
+        name = tree.parts[1].name
+        part = Part(tree.parts[1].at)
+        if name in earlier:
+            raise TwoClaims(f"two parts called {name!r}", earlier[name].at, part.at)
         lines.extend(enter_items(maker, part, tree, earlier))
         # Only now, for a part can't use what it tells itself.
-        earlier[word.name] = part
+        earlier[name] = part
     return lines
 
 
@@ -94,21 +94,22 @@ def is_pair(tree):
 
 
 def claim_once(part, word):
-    if word.name in part.claimed:
-        raise TwoClaims(f"{word.name!r} is claimed twice", part.claimed[word.name], word.at)
-    part.claimed[word.name] = word.at
+    name = word.name
+    if name in part.claimed:
+        raise TwoClaims(f"{name!r} is claimed twice", part.claimed[name], word.at)
+    part.claimed[name] = word.at
 
 
 def enter_use(maker, part, item, earlier):
     source = item.parts[1]
     if source.name not in earlier:
-        raise NoName(f"no earlier part is called {source.name!r}", source.at)
+        raise NoName("no earlier part is called so", source.at)
     handed = earlier[source.name].handed
     for pair in item.parts[2:]:
         mine = pair.parts[0]
         theirs = pair.parts[1]
         if theirs.name not in handed:
-            raise NoName(f"{theirs.name!r} is not told there", theirs.at)
+            raise NoName("that part tells nothing so", theirs.at)
         claim_once(part, mine)
         maker.claims.put(mine.name, mine.at, mine.bits, handed[theirs.name][1])
 
@@ -119,9 +120,10 @@ def enter_tell(maker, part, item):
     for pair in item.parts[1:]:
         mine = pair.parts[0]
         theirs = pair.parts[1]
+        name = theirs.name
         meaning = maker.meaning(mine)
         if meaning is None:
-            raise NoName(f"{mine.name!r} has no claim", mine.at)
-        if theirs.name in part.handed:
-            raise TwoClaims(f"{theirs.name!r} is told twice", part.handed[theirs.name][0], theirs.at)
-        part.handed[theirs.name] = (theirs.at, meaning)
+            raise NoName("what is to be told has no claim", mine.at)
+        if name in part.handed:
+            raise TwoClaims(f"{name!r} is told twice", part.handed[name][0], theirs.at)
+        part.handed[name] = (theirs.at, meaning)

@@ -54,6 +54,17 @@ def faults_of_letters(source):
     return faults
 
 
+def is_plain(node):
+    """L3: whether a value is written out."""
+    if isinstance(node, ast.Dict):
+        return all(is_plain(part) for part in node.keys + node.values)
+    if isinstance(node, (ast.Tuple, ast.List)):
+        return all(is_plain(part) for part in node.elts)
+    if isinstance(node, ast.UnaryOp):
+        return isinstance(node.op, ast.USub) and is_plain(node.operand)
+    return isinstance(node, (ast.Constant, ast.Name))
+
+
 def faults_of_top(tree):
     """L2, L3, L15, L16: what may stand at a file's top."""
     faults = []
@@ -65,7 +76,7 @@ def faults_of_top(tree):
             bound += [name.asname or name.name for name in node.names]
         elif isinstance(node, (ast.FunctionDef, ast.ClassDef)):
             bound.append(node.name)
-        elif isinstance(node, ast.Assign) and isinstance(node.targets[0], ast.Name):
+        elif isinstance(node, ast.Assign) and isinstance(node.targets[0], ast.Name) and is_plain(node.value):
             bound.append(node.targets[0].id)
         elif not (number == 0 and isinstance(node, ast.Expr) and isinstance(node.value, ast.Constant)):
             faults.append(f"L3 line {node.lineno} may not stand at the top")
@@ -133,8 +144,11 @@ def faults_of_node(node, methods):
 
 def faults_of_expression(node, line):
     """L6, L7, L20, L27: forms of statements and values."""
-    if isinstance(node, ast.Assign) and len(node.targets) != 1:
+    if isinstance(node, ast.Assign) and (len(node.targets) != 1 or isinstance(node.targets[0], (ast.Tuple, ast.List))):
         return [f"L6 several targets in line {line}"]
+    if isinstance(node, ast.FormattedValue):
+        if not isinstance(node.value, ast.Name) or node.format_spec or node.conversion not in (-1, ord("r")):
+            return [f"L7 braces in line {line}"]
     if isinstance(node, (ast.For, ast.While)) and node.orelse:
         return [f"L6 else behind a loop in line {line}"]
     if isinstance(node, ast.Try) and node.finalbody:
@@ -231,7 +245,9 @@ class CheckerTest(unittest.TestCase):
             "def f(x):\n    return x / 2.5", "def f(x):\n    return {k for k in x}", "def f(x):\n    del x",
             "def f(list):\n    return list", "def f(x):\n    return x.sort()", "def f(x):\n    return x is x",
             "class A:\n    x = 1", "def f():\n" + "    pass\n" * 40, "x = 'a\tb'", "x = '%'", "# type",
-            "def _f():\n    pass", "def f(n):\n    return 2 ** n", "def f(x):\n    return chr(x)",
+            "def _f():\n    pass", "def f(n):\n    return 2 ** n", "def f(x):\n    return chr(x)", "x = 10 ** 60",
+            "def f(x):\n    return f'{x.y}'", "def f(x):\n    return f'{x!s}'", "def f(x):\n    return f'{x:>3}'",
+            "def f(x):\n    a, b = x",
         ):
             self.assertNotEqual(faults_in(source), [], source)
 

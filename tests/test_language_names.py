@@ -117,6 +117,22 @@ def faults_of_keywords(tree):
     return faults
 
 
+def faults_of_classes(tree):
+    """L18: a class is called, is a base, or stands by `isinstance` and `except`."""
+    faults = []
+    parents = parents_in(tree)
+    for node in ast.walk(tree):
+        if isinstance(node, ast.Name) and node.id[0].isupper() and not node.id.isupper():
+            parent = parents[node]
+            if isinstance(parent, ast.Tuple):
+                parent = parents[parent]
+            called = isinstance(parent, ast.Call) and (parent.func == node or is_call_of(parent, {"isinstance"}))
+            base = isinstance(parent, ast.Attribute) and parent.attr == "__init__"
+            if not (called or base or isinstance(parent, (ast.ClassDef, ast.ExceptHandler))):
+                faults.append(f"L18 {node.id} in line {node.lineno}")
+    return faults
+
+
 def methods_and_values(trees):
     methods = set()
     values = set()
@@ -132,7 +148,7 @@ def faults_in(source):
     tree = ast.parse(source)
     found = []
     for check in (faults_of_locals, faults_of_statements, faults_of_walks, faults_of_changes, faults_of_sets,
-                  faults_of_keywords):
+                  faults_of_keywords, faults_of_classes):
         found += check(tree)
     return found
 
@@ -165,6 +181,7 @@ class CheckerTest(unittest.TestCase):
             "def f(x):\n    return x.items()",
             "def f(xs):\n    for x in xs:\n        xs.append(x)", "def f(x):\n    y = set(x)",
             "def f(x):\n    for k in set(x):\n        f(k)", "def f(x):\n    return int(x, base=2)",
+            "class Abc:\n    pass\ndef f():\n    return [Abc]", "class Abc:\n    pass\ndef f(x):\n    x.y = Abc",
         ):
             self.assertNotEqual(faults_in('"""Words."""\n' + source), [], source)
 
