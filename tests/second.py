@@ -227,8 +227,9 @@ def first_wrong(core):
     if core[0] == "wrong":
         return core[1:]
     for inner in inner_cores(core):
-        if first_wrong(inner):
-            return first_wrong(inner)
+        wrong = first_wrong(inner)
+        if wrong:
+            return wrong
     return None
 
 
